@@ -1,0 +1,1 @@
+"""Ticktrees: trees of deeds made from told rows of ticks."""
