@@ -163,3 +163,63 @@ def rows_of_trees(many, leaves):
         return [()]
     return [(first,) + rest for here in range(1, many + 1)
             for first in trees_of(here, leaves) for rest in rows_of_trees(many - here, leaves)]
+
+
+def mixed(some, many):
+    """So many of the worlds, in an order that mixes them, always the same one."""
+    return tuple(some[(number * number * 7 + number * 3) % len(some)] for number in range(many))
+
+
+def told_run(tree, some):
+    """The told row of a tree that holds no place."""
+    stand, told = None, ()
+    for world in some:
+        result, deeds, stand = told_tick(tree, stand, world)
+        told += ((world, deeds, result),)
+    return told
+
+
+def told_ways(part, stand, world, way=()):
+    """The ways of all parts to which a tick comes."""
+    word, inner = part
+    found = [way]
+    if word in ("if", "do"):
+        return found
+    inner = (inner,) if word == "not" else inner
+    for number in range(stand[0] if stand and word == "hold" else 0, len(inner)):
+        below = stand and stand[1][number]
+        found += told_ways(inner[number], below, world, way + (number,))
+        if told_tick(inner[number], below, world)[0] != ("f" if word == "pick" else "d"):
+            break
+    return found
+
+
+def told_reached(tree, some=ALL_WORLDS):
+    """What held tells, what comes, and to which ways a tick comes, of all stands to which these worlds lead."""
+    seen, waiting, held, results, come = set(), [None], set(), set(), set()
+    while waiting:
+        stand = waiting.pop()
+        if stand in seen:
+            continue
+        seen.add(stand)
+        held.add(told_held(stand))
+        for world in some:
+            result, deeds, behind = told_tick(tree, stand, world)
+            results.add(result)
+            come.update(told_ways(tree, stand, world))
+            waiting.append(behind)
+    return held, results, come
+
+
+def told_parting(one, other, some, most):
+    """The first row of up to so many worlds, the shortest first, then the least, that parts the trees."""
+    for many in range(1, most + 1):
+        for tried in itertools.product(some, repeat=many):
+            if told_run(one, tried) != told_run(other, tried):
+                return tried
+    return None
+
+
+def is_rising(some):
+    """Whether each is greater than the one ahead of it, so that none is there twice."""
+    return all(one < other for one, other in zip(some, some[1:]))

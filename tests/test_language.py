@@ -65,6 +65,17 @@ class Language(unittest.TestCase):
                 self.assertTrue(name == "__init__" or re.match("^[A-Za-z]", name), (path, name))
                 self.assertNotIn(name, BUILTINS)
 
+    def test_no_import_or_class_is_given_another_meaning(self):
+        for path, tree in self.trees():
+            known = [node.name for node in tree.body if isinstance(node, ast.ClassDef)]
+            known += [one.name for node in tree.body if isinstance(node, ast.ImportFrom) for one in node.names]
+            self.assertEqual(len(known), len(set(known)), path)
+            for node in ast.walk(tree):
+                if isinstance(node, ast.FunctionDef) or isinstance(node, ast.arg):
+                    self.assertNotIn(getattr(node, "name", getattr(node, "arg", None)), known, path)
+                if isinstance(node, ast.Name) and isinstance(node.ctx, ast.Store):
+                    self.assertNotIn(node.id, known, path)
+
     def test_no_name_is_a_method_and_an_attribute(self):
         methods, attributes = set(), set()
         for path, tree in self.trees():

@@ -1,15 +1,10 @@
 import itertools
 import unittest
 
-from tests.samples import (ALL_WORLDS, DO_P, DO_Q, DO_R, IF_A, IF_B, IF_C, JUNK, TREES, hold, nested, no, nots, pick,
-                           row, spoilt, told_held, told_tick, trees_of, wide)
+from tests.samples import (ALL_WORLDS, DO_P, DO_Q, DO_R, IF_A, IF_B, IF_C, JUNK, TREES, hold, mixed, nested, no, nots,
+                           pick, row, spoilt, told_held, told_tick, trees_of, wide)
 from ticktrees.errors import NoDeed
 from ticktrees.ticking import Ticker, is_world, run, worlds
-
-
-def mixed(some, many):
-    """So many of the worlds, in an order that mixes them, always the same one."""
-    return tuple(some[(number * number * 7 + number * 3) % len(some)] for number in range(many))
 
 
 class IsWorld(unittest.TestCase):

@@ -37,22 +37,25 @@ def texts_of_results(deeds):
 
 
 class Tick:
-    """One tick on its way through a tree: where it begins, and what it has done."""
+    """One tick through a tree: to which parts it came, what it did, and which places it holds."""
 
-    def __init__(self, world, before):
-        self.world = world
+    def __init__(self, tree, before, world):
         self.before = before
+        self.world = world
         # Kept apart from those before, so that a place is let go if it is not held anew.
         self.places = {}
-        self.deeds = []
+        self.trail = []
+        self.deeds = ""
+        self.result = self.come_to(tree, ())
 
     def come_to(self, part, way):
         """What comes of the part to which the way leads."""
+        self.trail.append(way)
         word, inner = part
         if word == "if":
             return "d" if inner in self.world[0] else "f"
         if word == "do":
-            self.deeds.append(inner)
+            self.deeds += inner
             return self.world[1][DEEDS.index(inner)]
         if word == "not":
             return TURNED[self.come_to(inner, way + (0,))]
@@ -63,7 +66,8 @@ class Tick:
     def come_to_hold(self, parts, way):
         """What comes of a hold of these parts."""
         result, number = self.come_along(parts, way, self.before.get(way, 0), "d")
-        if result == "g":
+        # A hold that holds 0 begins as one that holds none.
+        if result == "g" and number > 0:
             self.places[way] = number
         return result
 
@@ -74,6 +78,11 @@ class Tick:
             number += 1
             result = self.come_to(parts[number], way + (number,))
         return result, number
+
+
+def stand_of(places):
+    """The places that are held as a rising tuple of pairs, which can be a key."""
+    return tuple(sorted(places.items()))
 
 
 class Ticker:
@@ -88,17 +97,15 @@ class Ticker:
 
     def tick(self, world):
         """Does one tick: a pair of the deeds and the result."""
-        one = Tick(world, self.places)
-        result = one.come_to(self.tree, ())
-        deeds = "".join(one.deeds)
+        one = Tick(self.tree, self.places, world)
         self.keep_past()
         self.places = one.places
-        self.ticks.append((world, deeds, result))
-        return deeds, result
+        self.ticks.append((world, one.deeds, one.result))
+        return one.deeds, one.result
 
     def held(self):
         """The ways of the holds that are not at their beginning, with the numbers that they hold."""
-        return tuple(sorted([(way, number) for way, number in self.places.items() if number > 0]))
+        return stand_of(self.places)
 
     def told(self):
         """The told row of all ticks."""
@@ -122,9 +129,14 @@ class Ticker:
         self.past.append((self.places, len(self.ticks)))
 
 
-def run(tree, some):
-    """The told row of a new ticker's ticks in these worlds."""
+def ticked(tree, some):
+    """A new ticker behind its ticks in these worlds."""
     ticker = Ticker(tree)
     for world in some:
         ticker.tick(world)
-    return ticker.told()
+    return ticker
+
+
+def run(tree, some):
+    """The told row of a new ticker's ticks in these worlds."""
+    return ticked(tree, some).told()
