@@ -1,7 +1,7 @@
 """Alike: whether rows part two trees, and what may ever come of a tree."""
 
 from ticktrees.ticking import RESULTS, Tick, stand_of, worlds
-from ticktrees.trees import WORDS_OF_MANY, deeds_of, parts_of, senses_of, ways, with_parts
+from ticktrees.trees import deeds_of, parts_of, senses_of, ways, with_left
 
 
 class Steps:
@@ -19,25 +19,34 @@ class Steps:
         return self.known[key]
 
 
-def parting(one, other):
-    """The shortest worlds, of these the least, of which the trees tell otherwise; None."""
-    some = worlds(senses_of(one) + senses_of(other), deeds_of(one) + deeds_of(other))
-    left, right = Steps(one), Steps(other)
-    # Each pair of stands waits once, behind its shortest and least row, so that the first row found is it.
-    waiting = [((), (), ())]
-    seen = {((), ()): True}
+def joint_ticks(trees):
+    """All ticks of these trees in the same worlds, behind the rows that end so: the shortest first, then the least."""
+    # Senses and deeds that do not stand in the trees make no difference to them.
+    some = worlds("".join([senses_of(tree) for tree in trees]), "".join([deeds_of(tree) for tree in trees]))
+    steps = [Steps(tree) for tree in trees]
+    begin = tuple([() for tree in trees])
+    # All stands together wait once, behind their shortest and least row, so that rows are told in order.
+    waiting = [(begin, ())]
+    seen = {begin: True}
     at = 0
     while at < len(waiting):
-        left_stand, right_stand, row = waiting[at]
+        before, row = waiting[at]
         at += 1
         for world in some:
-            here, there = left.step(left_stand, world), right.step(right_stand, world)
-            if (here.deeds, here.result) != (there.deeds, there.result):
-                return row + (world,)
-            pair = (stand_of(here.places), stand_of(there.places))
-            if pair not in seen:
-                seen[pair] = True
-                waiting.append(pair + (row + (world,),))
+            ticks = [one.step(stand, world) for one, stand in zip(steps, before)]
+            yield (row + (world,), ticks)
+            behind = tuple([stand_of(one.places) for one in ticks])
+            if behind not in seen:
+                seen[behind] = True
+                waiting.append((behind, row + (world,)))
+
+
+def parting(one, other):
+    """The shortest worlds, of these the least, of which the trees tell otherwise; None."""
+    both = (one, other)
+    for row, (here, there) in joint_ticks(both):
+        if (here.deeds, here.result) != (there.deeds, there.result):
+            return row
     return None
 
 
@@ -47,37 +56,26 @@ def are_alike(one, other):
 
 
 def all_ticks(tree):
-    """All ticks that the tree may do: from each stand to which it may come, in each world."""
-    # Senses and deeds that do not stand in the tree make no difference to it.
-    some = worlds(senses_of(tree), deeds_of(tree))
-    steps = Steps(tree)
-    found = []
-    seen = {}
-    waiting = [()]
-    while waiting:
-        stand = waiting.pop()
-        if stand not in seen:
-            seen[stand] = True
-            ticks = [steps.step(stand, world) for world in some]
-            found.extend(ticks)
-            waiting.extend([stand_of(one.places) for one in ticks])
-    return found
+    """All ticks that the tree may do, behind the rows of worlds that end so: the shortest first, then the least."""
+    alone = (tree,)
+    for row, ticks in joint_ticks(alone):
+        yield (row, ticks[0])
 
 
 def stands(tree):
     """All that held may tell of a ticker of the tree, rising."""
-    return tuple(sorted(set([()] + [stand_of(one.places) for one in all_ticks(tree)])))
+    return tuple(sorted(set([()] + [stand_of(one.places) for row, one in all_ticks(tree)])))
 
 
 def results(tree):
     """All results that may come of a tick, as a text."""
-    coming = {one.result: True for one in all_ticks(tree)}
+    coming = {one.result: True for row, one in all_ticks(tree)}
     return "".join([sign for sign in RESULTS if sign in coming])
 
 
 def never(tree):
     """The ways to the parts to which no tick comes, but not to those within such, rising."""
-    come = {way: True for one in all_ticks(tree) for way in one.trail}
+    come = {way: True for row, one in all_ticks(tree) for way in one.trail}
     return tuple([way for way in ways(tree) if way not in come and way[:-1] in come])
 
 
@@ -93,6 +91,4 @@ def without(part, way, left_out):
         inner_way = way + (number,)
         if inner_way not in left_out:
             kept.append(without(inner, inner_way, left_out))
-    if part[0] in WORDS_OF_MANY and len(kept) == 1:
-        return kept[0]
-    return with_parts(part, tuple(kept))
+    return with_left(part, tuple(kept))

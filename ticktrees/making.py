@@ -2,14 +2,14 @@
 
 from ticktrees.errors import NoTree, TooMany
 from ticktrees.judging import fits
-from ticktrees.trees import DEEDS, SENSES, WORDS_OF_MANY
+from ticktrees.trees import WORDS_OF_MANY, leaves_of
 
 MOST_MADE = 5
 
 
 def all_trees(senses, deeds, many):
     """All trees of so many parts in which no other senses and deeds stand, rising."""
-    refuse_above(many)
+    refuse_above(many, MOST_MADE)
     trees = {1: leaves_of(senses, deeds)}
     rows = {0: [()]}
     for number in range(2, many + 1):
@@ -18,16 +18,10 @@ def all_trees(senses, deeds, many):
     return tuple(sorted(trees.get(many, [])))
 
 
-def refuse_above(many):
+def refuse_above(many, limit):
     """Refuses numbers of parts of which there are more trees than are made."""
-    if many > MOST_MADE:
-        raise TooMany(f"trees of more than {MOST_MADE} parts are not made")
-
-
-def leaves_of(senses, deeds):
-    """All leaves of these senses and deeds."""
-    asking = [("if", sense) for sense in SENSES if sense in senses]
-    return asking + [("do", deed) for deed in DEEDS if deed in deeds]
+    if many > limit:
+        raise TooMany(f"trees of more than {limit} parts are not made")
 
 
 def rows_of_trees(trees, rows, many):
@@ -54,7 +48,7 @@ def fitting(rows, senses, deeds, many):
 def least(rows, senses, deeds, most):
     """Of the trees of up to most parts that fit the rows, with the fewest parts, the least."""
     # Refused here, as a small tree that fits would be told ahead of it.
-    refuse_above(most)
+    refuse_above(most, MOST_MADE)
     for many in range(1, most + 1):
         for tree in all_trees(senses, deeds, many):
             if fits(tree, rows):

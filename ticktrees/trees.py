@@ -67,6 +67,19 @@ def with_parts(tree, parts):
     return tree
 
 
+def with_left(tree, parts):
+    """The tree with these parts left right below it; of a row, pick or hold one left alone stands for it."""
+    if tree[0] in WORDS_OF_MANY and len(parts) == 1:
+        return parts[0]
+    return with_parts(tree, parts)
+
+
+def leaves_of(senses, deeds):
+    """All leaves of these senses and deeds."""
+    asking = [("if", sense) for sense in SENSES if sense in senses]
+    return asking + [("do", deed) for deed in DEEDS if deed in deeds]
+
+
 def size(tree):
     """How many parts the tree has, itself counted."""
     return 1 + sum([size(part) for part in parts_of(tree)])
